@@ -108,8 +108,26 @@ func wrong(t *testing.T, n api.Node, want api.Errno) {
 // sound holds a plan, and those in it, against P14.2: its columns are a schema with the IDs 1, 2, and so on; each place is one of its Kids' columns.
 func sound(t *testing.T, p api.Plan) {
 	t.Helper()
-	if !schema.Schema(p.Cols).Right() || !slices.Equal(p.Cols, numbered(p.Cols...)) {
+	placed(t, p)
+	schemas(t, p)
+}
+
+// schemas tells of all plans in a plan whose columns are no schema.
+func schemas(t *testing.T, p api.Plan) {
+	t.Helper()
+	if !schema.Schema(p.Cols).Right() {
 		t.Errorf("the columns of %s are no schema: %v", plan.Show(p), p.Cols)
+	}
+	for _, k := range p.Kids {
+		schemas(t, k)
+	}
+}
+
+// placed holds a plan, and those in it, against what P14.2 says of IDs and of places.
+func placed(t *testing.T, p api.Plan) {
+	t.Helper()
+	if !slices.Equal(p.Cols, numbered(p.Cols...)) {
+		t.Errorf("the columns of %s have other IDs: %v", plan.Show(p), p.Cols)
 	}
 	place := func(at, kid int) bool { return at >= 0 && kid < len(p.Kids) && at < len(p.Kids[kid].Cols) }
 	for _, o := range p.On {
@@ -123,12 +141,12 @@ func sound(t *testing.T, p api.Plan) {
 		}
 	}
 	for _, a := range p.Aggs {
-		if !place(a.At, 0) {
+		if a.Fn != "count" && !place(a.At, 0) || a.Fn == "count" && a.At != 0 {
 			t.Errorf("no place in %s: %v", plan.Show(p), a)
 		}
 	}
 	for _, k := range p.Kids {
-		sound(t, k)
+		placed(t, k)
 	}
 }
 

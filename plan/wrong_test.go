@@ -327,28 +327,91 @@ func TestFirst(t *testing.T) {
 	}
 }
 
-// P14.1, P14.2: a table whose columns are no schema has no plan.
+// P14.1: of a table's columns the names, and how many there are, are wrong with a query, at last of all; nothing else of them is.
 func TestNoSchema(t *testing.T) {
+	odd := column(1, "z", 9)
 	for _, k := range []struct {
 		cols []api.Column
 		want api.Errno
 	}{
-		{nil, api.ErrArg}, {[]api.Column{}, api.ErrArg}, {columns(13), api.ErrFull}, {columns(14), api.ErrFull}, {[]api.Column{{ID: 1, Name: "", Kind: api.Bool}}, api.ErrArg}, {append(columns(2), column(1, "not", api.Bool)), api.ErrArg},
+		{columns(13), api.ErrFull}, {columns(14), api.ErrFull}, {[]api.Column{{ID: 1, Name: "", Kind: api.Bool}}, api.ErrArg}, {append(columns(2), column(1, "not", api.Bool)), api.ErrArg},
 		{append(columns(2), columns(1)...), api.ErrTwice}, {append(append(columns(1), columns(1)...), column(1, "a b", api.Bool)), api.ErrArg}, {append(columns(13), columns(1)...), api.ErrTwice}, {append(columns(13), column(1, "", api.Bool)), api.ErrArg},
-		{[]api.Column{column(1, "a", api.Null)}, api.ErrArg}, {[]api.Column{column(1, "a", 5)}, api.ErrArg}, {append(columns(1), column(1, "z", -1)), api.ErrArg}, {append(columns(1), column(1, "z", math.MaxInt)), api.ErrArg},
+		{append(columns(12), odd), api.ErrFull}, {append(columns(1), odd, odd), api.ErrTwice}, {[]api.Column{odd, column(1, "", 9)}, api.ErrArg}, {[]api.Column{{}}, api.ErrArg},
 	} {
 		for _, n := range []api.Node{from("o"), of("distinct", from("o")), of("union", from("o"), from("z")), of("filter", from("o"), col("none"))} {
-			if p, e := plan.Of(n, api.Table{Name: "o", Cols: k.cols}); e != k.want || !same(p, api.Plan{}) {
-				t.Errorf("Of(%s) over %v: %v, %d, not %d", query.Show(n), k.cols, p, e, k.want)
-			}
+			over(t, n, k.cols, "", k.want)
 		}
+		over(t, of("x"), k.cols, "", api.ErrArg)
 		if _, e := plan.Of(from("t"), append(tables(), api.Table{Name: "o", Cols: k.cols})...); e != api.OK {
 			t.Errorf("Of(t) beside a table of %v: %d", k.cols, e)
 		}
 	}
 	// IDs are the plan's own, whatever the table's are.
-	odd := []api.Column{column(7, "a", api.Bool), column(7, "b", api.Text), column(-1, "c", api.Int32), column(0, "d", api.Int64)}
-	if p, e := plan.Of(from("o"), api.Table{Name: "o", Cols: odd}); e != api.OK || !slices.Equal(p.Cols, numbered(odd...)) {
-		t.Errorf("Of over odd IDs: %v, %d", p, e)
+	ids := []api.Column{column(7, "a", api.Bool), column(7, "b", api.Text), column(-1, "c", api.Int32), column(0, "d", api.Int64)}
+	over(t, from("o"), ids, "o", api.OK, ids...)
+}
+
+// over holds the plan of a query over one table o, with its columns, and what is wrong with it, against what should be.
+func over(t *testing.T, n api.Node, cols []api.Column, text string, want api.Errno, has ...api.Column) {
+	t.Helper()
+	p, e := plan.Of(n, api.Table{Name: "o", Cols: cols})
+	if e != want || e != api.OK && !same(p, api.Plan{}) {
+		t.Errorf("Of(%s) over %v: %v, %d, not %d", query.Show(n), cols, p, e, want)
+	} else if e == api.OK && (plan.Show(p) != text || !slices.Equal(p.Cols, numbered(has...))) {
+		t.Errorf("Of(%s) over %v: %s, %v, not %s, %v", query.Show(n), cols, plan.Show(p), p.Cols, text, has)
+	}
+}
+
+// P14.1: a table without columns: what a query over it asks of no column is right.
+func TestNoColumns(t *testing.T) {
+	for _, none := range [][]api.Column{nil, {}, columns(3)[:0]} {
+		for s, want := range map[string]string{
+			"o": "o", "distinct(o)": "distinct[](o)", "union(o, o, o)": "union[](o, o, o)", "filter(o, true)": "filter[true](o)", "filter(o, null)": "filter[null](o)", "filter(distinct(o), 1 < 2 or null)": "filter[1 < 2 or null](distinct[](o))",
+		} {
+			over(t, parse(t, s), none, want, api.OK)
+		}
+		n, z := column(1, "n", api.Int64), column(1, "z", api.Int32)
+		over(t, parse(t, "group(o, n = count())"), none, "group[count 0](o)", api.OK, n)
+		over(t, parse(t, "group(o, z = count(), n = count())"), none, "group[count 0; count 0](o)", api.OK, column(1, "z", api.Int64), n)
+		over(t, parse(t, "project(o, z = 1)"), none, "project[1](o)", api.OK, z)
+		over(t, parse(t, "union(project(o, z = 1), project(o, n = 2))"), none, "union[](project[1](o), project[2](o))", api.OK, z)
+		for s, want := range map[string]api.Errno{
+			"filter(o, a > 1)": api.ErrName, "filter(o, 1)": api.ErrType, "filter(o, 'x')": api.ErrType, "project(o, z = a)": api.ErrName, "project(o, z = null)": api.ErrType, "project(o, z = 1, z = 2)": api.ErrTwice, "group(o, n = min(a))": api.ErrName, "group(o, n = sum(a))": api.ErrName,
+			"group(o, by a, n = count())": api.ErrName, "group(o, n = count(), n = count())": api.ErrTwice, "join(o, o, a = a)": api.ErrName, "join(o, project(o, z = 1), z = z)": api.ErrName, "join(project(o, z = 1), o, z = z)": api.ErrName,
+			"union(o, project(o, z = 1))": api.ErrType, "union(project(o, z = 1), o)": api.ErrType, "union(o, o, o, o, o)": api.ErrFull, "union(o, z)": api.ErrName,
+		} {
+			over(t, parse(t, s), none, "", want)
+		}
+		over(t, of("distinct", from("o"), from("o")), none, "", api.ErrArg)
+	}
+}
+
+// P14.1: a column of a kind that no column has: it is of that kind in the plan, too; what asks for another kind is ErrType.
+func TestOtherKinds(t *testing.T) {
+	for _, k := range []api.Kind{api.Null, 5, 9, -1, math.MaxInt, math.MinInt} {
+		cols := []api.Column{column(5, "a", k), column(5, "b", api.Int32)}
+		for s, want := range map[string]string{
+			"o": "o", "distinct(o)": "distinct[](o)", "union(o, o)": "union[](o, o)", "filter(o, b > 1)": "filter[b > 1](o)", "filter(o, a is null)": "filter[a is null](o)", "filter(o, a = a)": "filter[a = a](o)", "filter(o, a < null)": "filter[a < null](o)",
+		} {
+			over(t, parse(t, s), cols, want, api.OK, cols...)
+		}
+		over(t, parse(t, "group(o, by a, n = min(a), m = max(a))"), cols, "group[0; min 0; max 0](o)", api.OK, column(1, "a", k), column(2, "n", k), column(3, "m", k))
+		over(t, parse(t, "join(o, project(o, c = b), b = c)"), cols, "join[1=0](o, project[b](o))", api.OK, append(slices.Clone(cols), column(3, "c", api.Int32))...)
+		over(t, parse(t, "join(o, group(o, c = max(a)), a = c)"), cols, "join[0=0](o, group[max 0](o))", api.OK, append(slices.Clone(cols), column(3, "c", k))...)
+		for s, want := range map[string]api.Errno{
+			"group(o, n = sum(a))": api.ErrType, "join(o, o, a = b)": api.ErrType, "join(o, o, a = a)": api.ErrTwice, "union(o, project(o, z = b, y = b))": api.ErrType, "filter(o, none)": api.ErrName, "filter(o, b)": api.ErrType, "group(o, by a a, n = count())": api.ErrTwice,
+		} {
+			over(t, parse(t, s), cols, "", want)
+		}
+		// Null is what a filter may be of, and what numbers and truths may stand beside; an item may be of any kind but Null.
+		if k == api.Null {
+			over(t, parse(t, "filter(o, a or a + b > 1)"), cols, "filter[a or a + b > 1](o)", api.OK, cols...)
+			over(t, parse(t, "project(o, z = a)"), cols, "", api.ErrType)
+			continue
+		}
+		over(t, parse(t, "project(o, z = a)"), cols, "project[a](o)", api.OK, column(1, "z", k))
+		for _, s := range []string{"a", "not a", "a + b > 1", "a > b", "-a = 1"} {
+			over(t, parse(t, "filter(o, "+s+")"), cols, "", api.ErrType)
+		}
 	}
 }
